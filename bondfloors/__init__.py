@@ -1,0 +1,1 @@
+"""Floors of bars that no line goes through."""
