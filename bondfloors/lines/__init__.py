@@ -1,0 +1,1 @@
+"""Lines between columns and rows, and what crosses them."""

@@ -1,0 +1,1 @@
+"""Plans: a few blocks that tell a floor."""
