@@ -87,6 +87,35 @@ def merged_plan(numbers, floor):
     return Plan(floor.size, *[(x, y) + block for (x, y), block in blocks.items()])
 
 
+def every_floor(size):
+    """The rows of bars of all floors of a size, made by filling the first free cell in each way."""
+    width, height, length = size
+    todo = [((), 0)]
+    while todo:
+        bars, filled = todo.pop()
+        at = 0
+        while filled >> at & 1:
+            at += 1
+        if at == width * height:
+            yield bars
+            continue
+        y, x = divmod(at, width)
+        for way, step, fits in (("across", 1, x + length <= width), ("down", width, y + length <= height)):
+            mask = sum(1 << at + k * step for k in range(length))
+            if fits and not filled & mask:
+                todo.append((bars + ((x, y, way),), filled | mask))
+
+
+def seams_counted(size, bars):
+    """The number of the lines that no bar crosses, bar by bar."""
+    width, height, length = size
+    crossed = set()
+    for x, y, way in bars:
+        first = x if way == "across" else y
+        crossed.update((way, c) for c in range(first + 1, first + length))
+    return width - 1 + height - 1 - len(crossed)
+
+
 def lines_of(size):
     """All lines of the size, ascending."""
     width, height, _ = size

@@ -1,0 +1,1 @@
+"""Floors that come from other floors."""

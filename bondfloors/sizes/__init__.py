@@ -1,0 +1,1 @@
+"""What sizes have, told without a floor."""
