@@ -1,0 +1,1 @@
+"""All floors of a size."""
