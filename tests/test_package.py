@@ -1,6 +1,7 @@
-"""What ../shared/LANGUAGE.md demands of the files, as far as it can be read off them (L1, L2, L10, L14, L17)."""
+"""What ../shared/LANGUAGE.md demands of the files, as far as it can be read off them (L1, L2, L5, L7, L8, L10, L14, L17, L19)."""
 
 import ast
+import builtins
 import os
 import re
 import unittest
@@ -11,6 +12,14 @@ FOLDER = os.path.dirname(os.path.abspath(bondfloors.__file__))
 BARRED = re.compile(
     r"\b(typing|typing_extensions|enum|Enum|IntEnum|StrEnum|Flag|IntFlag|Generic|Protocol|ABC|ABCMeta"
     r"|namedtuple|NamedTuple|TypedDict|TYPE_CHECKING|abstractmethod)\b|dataclass|overload|contextmanager"
+)
+BUILTINS = (
+    "len", "range", "enumerate", "zip", "min", "max", "sum", "abs", "sorted", "reversed", "int", "str", "bool", "list", "tuple", "dict", "set",
+    "isinstance", "any", "all", "divmod", "classmethod", "property", "ValueError", "TypeError", "KeyError", "IndexError", "LookupError",
+    "ArithmeticError", "OverflowError",
+)
+METHODS = (
+    "__init__", "__eq__", "__str__", "__len__", "__contains__", "__getitem__", "__iter__", "__call__", "__enter__", "__exit__",
 )
 LIBRARY = ("heapq", "math", "itertools", "collections")
 
@@ -65,6 +74,24 @@ class Files(unittest.TestCase):
                 if isinstance(node, ast.ImportFrom) and node.module != "__future__":
                     self.assertEqual(node.level, 0, path)
                     self.assertIn(node.module.split(".")[0], ("bondfloors",) + LIBRARY, path)
+
+    def test_signs_and_words_of_the_language(self):
+        for path in package_files():
+            for node in ast.walk(ast.parse(text_of(path))):
+                with self.subTest(path, line=getattr(node, "lineno", 0)):
+                    # Where a class has __eq__, what looks into all of something takes a list.
+                    self.assertNotIsInstance(node, (ast.GeneratorExp, ast.Global, ast.Nonlocal, ast.Lambda, ast.Div, ast.AsyncFunctionDef))
+                    if isinstance(node, ast.Constant):
+                        self.assertNotIsInstance(node.value, (float, complex))
+                    if isinstance(node, ast.Name) and node.id != "_" and hasattr(builtins, node.id):
+                        self.assertIn(node.id, BUILTINS)
+                    if isinstance(node, ast.FunctionDef) and node.name.startswith("__"):
+                        self.assertIn(node.name, METHODS)
+                    if isinstance(node, ast.Compare) and isinstance(node.ops[0], (ast.Is, ast.IsNot)):
+                        self.assertIsNone(node.comparators[0].value)
+                    if isinstance(node, ast.ExceptHandler):
+                        for caught in ast.walk(node.type):
+                            self.assertFalse(hasattr(builtins, getattr(caught, "id", "")))
 
     def test_barred_words(self):
         for path in package_files():

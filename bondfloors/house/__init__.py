@@ -1,0 +1,1 @@
+"""Sizes with promises."""

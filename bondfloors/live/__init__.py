@@ -1,0 +1,1 @@
+"""What changes, and can be taken back."""
