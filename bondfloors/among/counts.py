@@ -3,7 +3,7 @@
 from bondfloors.among.boards import Board
 from bondfloors.among.firsts import first_bond_bars
 from bondfloors.base.floors import Floor
-from bondfloors.base.values import is_index, is_whole
+from bondfloors.base.values import is_whole
 from bondfloors.base.words import is_size
 from bondfloors.errors import InvalidFloor, InvalidNumber, InvalidSize, TooMany
 
@@ -134,8 +134,6 @@ class Floors:
 
     def nth(self, number):
         """The floor with the number."""
-        if not is_index(number, self._total):
-            raise InvalidNumber(number)
         return nth_floor(self._size, number)
 
     def number(self, floor):

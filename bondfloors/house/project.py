@@ -116,5 +116,4 @@ class Project:
         return isinstance(other, Project) and self.size == other.size and self.promises == other.promises
 
     def __str__(self):
-        width, height, _ = self.size
-        return f"project of {width} by {height} cells, {len(self.promises)} promises"
+        return f"project of {self.size[0]} by {self.size[1]} cells, {len(self.promises)} promises"
